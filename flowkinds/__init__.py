@@ -1,0 +1,1 @@
+"""Flowkinds: kinds found as flows."""

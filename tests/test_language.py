@@ -1,0 +1,194 @@
+"""The package keeps to the part of Python that it may use, as far as a walk over its files can see."""
+
+import ast
+import builtins
+import pathlib
+import re
+import unittest
+
+ROOT = pathlib.Path(__file__).resolve().parent.parent / "flowkinds"
+FILES = sorted(ROOT.glob("*.py"))
+
+NODES = """Module FunctionDef arguments arg ClassDef Return Assign AugAssign For While If Raise Try ExceptHandler
+ImportFrom alias Expr Pass Break Continue BoolOp And Or BinOp Add Sub Mult FloorDiv Mod Pow LShift RShift BitOr BitXor
+BitAnd UnaryOp Not USub UAdd Invert Lambda IfExp Dict Set ListComp comprehension Compare Eq NotEq Lt LtE Gt GtE Is
+IsNot In NotIn Call keyword FormattedValue JoinedStr Constant Attribute Subscript Slice Name List Tuple Load
+Store""".split()
+
+OWN_NAMES = """len range enumerate zip min max sum abs sorted reversed int str bool list tuple dict set frozenset
+isinstance ord repr any all divmod Exception ValueError TypeError KeyError IndexError LookupError ZeroDivisionError
+ArithmeticError OverflowError RuntimeError NotImplementedError AttributeError StopIteration""".split()
+
+METHODS = """append clear copy count endswith extend find get index insert isalnum isalpha isdigit islower isspace
+isupper items join keys ljust lower lstrip partition pop remove replace reverse rfind rjust rpartition rsplit rstrip
+setdefault split splitlines startswith strip update upper values zfill bit_length""".split()
+
+NOT_VALUES = """items keys values pop update append clear extend insert remove reverse setdefault sort args encode
+format""".split()
+
+NOT_WORDS = """type typing typing_extensions enum Enum IntEnum StrEnum Flag IntFlag Generic Protocol ABC ABCMeta
+namedtuple NamedTuple TypedDict TYPE_CHECKING abstractmethod""".split()
+
+NOT_NAMES = """register mro elements open input version_info with_traceback add_note attrgetter breakpoint builtins
+compile copyright credits delattr dir eval exec exit gc getattr globals hasattr help id importlib license locals
+methodcaller os quit setattr super type vars sys""".split()
+
+TWO_UNDERSCORES = ["__init__", "__eq__", "__repr__", "__str__", "__len__"]
+
+
+def sources():
+    return [(path.name, path.read_text(encoding="utf-8")) for path in FILES]
+
+
+def walked():
+    for name, text in sources():
+        for node in ast.walk(ast.parse(text)):
+            yield f"{name}:{getattr(node, 'lineno', 0)}", node
+
+
+def bound_names(node):
+    if isinstance(node, ast.arg):
+        return [node.arg]
+    if isinstance(node, ast.Name) and isinstance(node.ctx, ast.Store):
+        return [node.id]
+    if isinstance(node, (ast.FunctionDef, ast.ClassDef)):
+        return [node.name]
+    return []
+
+
+def is_plain(node):
+    if isinstance(node, (ast.List, ast.Tuple)):
+        return all(is_plain(part) for part in node.elts)
+    if isinstance(node, ast.Dict):
+        return all(is_plain(part) for part in node.keys + node.values)
+    return isinstance(node, (ast.Constant, ast.Name))
+
+
+class LanguageTest(unittest.TestCase):
+    def test_the_folder_holds_python_files_alone(self):
+        for path in ROOT.iterdir():
+            if path.name != "__pycache__":
+                self.assertRegex(path.name, r"^[a-z][a-z0-9_]*\.py$|^__init__\.py$|^__main__\.py$")
+
+    def test_signs_and_sizes(self):
+        for name, text in sources():
+            self.assertIsNone(re.search(r"[^\n -~]", text), name)
+            lines = text.splitlines()
+            self.assertLessEqual(len(lines), 400, name)
+            self.assertLessEqual(max(len(line) for line in lines), 120, name)
+            for word in NOT_WORDS:
+                self.assertIsNone(re.search(rf"(?<!\w){word}(?!\w)", text), f"{name} {word}")
+            self.assertIsNone(re.search("dataclass|overload|contextmanager", text), name)
+
+    def test_statements_and_expressions(self):
+        for at, node in walked():
+            with self.subTest(at):
+                self.assertIn(type(node).__name__, NODES)
+                if isinstance(node, ast.Assign):
+                    self.assertEqual(len(node.targets), 1)
+                    self.assertNotIsInstance(node.targets[0], (ast.Tuple, ast.List))
+                if isinstance(node, (ast.For, ast.While)):
+                    self.assertEqual(node.orelse, [])
+                if isinstance(node, ast.Try):
+                    self.assertEqual(node.finalbody, [])
+                    self.assertTrue(all(handler.type for handler in node.handlers))
+                if isinstance(node, ast.ListComp):
+                    self.assertEqual(len(node.generators), 1)
+                    self.assertLessEqual(len(node.generators[0].ifs), 1)
+                if isinstance(node, ast.Constant):
+                    self.assertNotIsInstance(node.value, (float, bytes, complex))
+                if isinstance(node, ast.Constant) and isinstance(node.value, str):
+                    self.assertNotIn("%", node.value)
+                if isinstance(node, ast.FormattedValue):
+                    self.assertIsInstance(node.value, ast.Name)
+                    self.assertIsNone(node.format_spec)
+                if isinstance(node, ast.Compare) and any(isinstance(one, (ast.Is, ast.IsNot)) for one in node.ops):
+                    self.assertIn(node.comparators[0].value, (None, True, False))
+
+    def test_functions_and_classes(self):
+        for at, node in walked():
+            with self.subTest(at):
+                if isinstance(node, (ast.FunctionDef, ast.ClassDef)):
+                    self.assertEqual(node.decorator_list, [])
+                if isinstance(node, ast.FunctionDef):
+                    self.assertLessEqual(node.end_lineno - node.lineno + 1, 40)
+                    used = node.args
+                    self.assertFalse(used.vararg or used.kwarg or used.kwonlyargs or used.posonlyargs)
+                if isinstance(node, ast.ClassDef):
+                    self.assertLessEqual(len(node.bases), 1)
+                    self.assertTrue(all(isinstance(one, (ast.FunctionDef, ast.Pass)) for one in node.body))
+
+    def test_the_top_of_each_file(self):
+        for name, text in sources():
+            names = []
+            for number, node in enumerate(ast.parse(text).body):
+                with self.subTest(f"{name}:{node.lineno}"):
+                    if isinstance(node, ast.Assign):
+                        names.append(node.targets[0].id)
+                        self.assertTrue(is_plain(node.value))
+                    elif isinstance(node, ast.ImportFrom):
+                        self.assertEqual(node.level, 0)
+                        self.assertTrue(node.module.startswith("flowkinds."))
+                        names += [one.name for one in node.names]
+                    elif isinstance(node, ast.Expr):
+                        self.assertEqual(number, 0)
+                    else:
+                        self.assertIsInstance(node, (ast.FunctionDef, ast.ClassDef))
+                        names.append(node.name)
+            self.assertEqual(len(names), len(set(names)), name)
+
+    def test_names(self):
+        for name, text in sources():
+            tree = ast.parse(text)
+            taken = [one.name for one in tree.body if isinstance(one, ast.ClassDef)]
+            for one in tree.body:
+                if isinstance(one, ast.ImportFrom):
+                    taken += [part.name for part in one.names]
+            methods = [one for node in tree.body if isinstance(node, ast.ClassDef) for one in node.body]
+            for node in ast.walk(tree):
+                for bound in bound_names(node):
+                    with self.subTest(f"{name}:{node.lineno}", name=bound):
+                        if bound not in TWO_UNDERSCORES:
+                            self.assertRegex(bound, r"^[A-Za-z][A-Za-z0-9_]*$")
+                        self.assertNotIn(bound, NOT_NAMES)
+                        if node not in methods:
+                            self.assertFalse(hasattr(builtins, bound))
+                        if not isinstance(node, ast.ClassDef):
+                            self.assertNotIn(bound, taken)
+
+    def test_pythons_own_names(self):
+        for at, node in walked():
+            if isinstance(node, ast.Name) and hasattr(builtins, node.id):
+                self.assertIn(node.id, OWN_NAMES, at)
+
+    def test_methods_and_values(self):
+        methods, values = set(), set()
+        for at, node in walked():
+            if isinstance(node, ast.ClassDef):
+                methods.update(one.name for one in node.body if isinstance(one, ast.FunctionDef))
+            if isinstance(node, ast.Attribute) and isinstance(node.ctx, ast.Store):
+                values.add(node.attr)
+        self.assertEqual(methods & values, set())
+        self.assertEqual(values & set(NOT_VALUES), set())
+        known = methods | values | set(METHODS) | {"__init__"}
+        for at, node in walked():
+            if isinstance(node, ast.Attribute):
+                self.assertIn(node.attr, known, at)
+                self.assertNotIn(node.attr, ["format", "format_map", "mro"], at)
+
+    def test_no_two_files_draw_from_one_another(self):
+        drawn = {}
+        for path in FILES:
+            tree = ast.parse(path.read_text(encoding="utf-8"))
+            drawn[path.stem] = [one.module.split(".")[1] for one in tree.body if isinstance(one, ast.ImportFrom)]
+        settled = set()
+        while True:
+            ready = [name for name in drawn if name not in settled and settled.issuperset(drawn[name])]
+            if not ready:
+                break
+            settled.update(ready)
+        self.assertEqual(settled, set(drawn))
+
+
+if __name__ == "__main__":
+    unittest.main()
