@@ -1,4 +1,4 @@
-"""What stands within the row of a place, whatever its form is."""
+"""What stands within the row of a place, whatever its form is, and where places stand."""
 
 
 # A row tells its names and places in the order of the text, so laying it flat
@@ -21,3 +21,10 @@ def flat(parts):
         else:
             found.append(part)
     return found
+
+
+# Asked of a place at which the definition's name holds: ahead of its own EXPR
+# it holds nowhere, so only the EXPR's end matters.
+def stands_in(program, place, number):
+    behind = number + 1
+    return behind == len(program.roots) or place < program.roots[behind]

@@ -46,6 +46,17 @@ def walked():
             yield f"{name}:{getattr(node, 'lineno', 0)}", node
 
 
+# Each node with the one that it stands in.
+def walked_within():
+    for at, outer in walked():
+        for node in ast.iter_child_nodes(outer):
+            yield at, node, outer
+
+
+def is_call_of(node, names):
+    return isinstance(node, ast.Call) and isinstance(node.func, ast.Name) and node.func.id in names
+
+
 def bound_names(node):
     if isinstance(node, ast.arg):
         return [node.arg]
@@ -175,6 +186,44 @@ class LanguageTest(unittest.TestCase):
             if isinstance(node, ast.Attribute):
                 self.assertIn(node.attr, known, at)
                 self.assertNotIn(node.attr, ["format", "format_map", "mro"], at)
+
+    def test_where_classes_stand(self):
+        classes = [node.name for _, node in walked() if isinstance(node, ast.ClassDef)]
+        self.assertEqual(len(classes), len(set(classes)))
+        for at, node, outer in walked_within():
+            if isinstance(node, ast.Name) and node.id in classes:
+                called = isinstance(outer, ast.Call) and outer.func is node
+                based = isinstance(outer, ast.ClassDef)
+                begun = isinstance(outer, ast.Attribute) and outer.attr == "__init__"
+                asked = is_call_of(outer, ["isinstance"]) or isinstance(outer, (ast.ExceptHandler, ast.Tuple))
+                self.assertTrue(called or based or begun or asked, at)
+
+    def test_what_is_made_by_init(self):
+        for at, node in walked():
+            if isinstance(node, ast.FunctionDef) and node.name == "__init__":
+                self.assertFalse(any(isinstance(one, ast.Return) for one in ast.walk(node)), at)
+
+    def test_lists_and_dicts_of_the_top_are_only_read(self):
+        tops = []
+        for _, text in sources():
+            for node in ast.parse(text).body:
+                if isinstance(node, ast.Assign) and isinstance(node.value, (ast.List, ast.Dict)):
+                    tops.append(node.targets[0].id)
+                    inner = [one for one in ast.walk(node.value) if one is not node.value]
+                    self.assertFalse(any(isinstance(one, (ast.List, ast.Dict)) for one in inner), tops[-1])
+        for at, node, outer in walked_within():
+            if isinstance(node, ast.Name) and node.id in tops and isinstance(node.ctx, ast.Load):
+                indexed = isinstance(outer, ast.Subscript) and isinstance(outer.ctx, ast.Load) and outer.value is node
+                walked_on = isinstance(outer, (ast.For, ast.comprehension)) and outer.iter is node
+                copied = is_call_of(outer, ["len", "list", "dict", "sorted", "tuple"])
+                self.assertTrue(indexed or walked_on or copied or isinstance(outer, ast.Compare), at)
+
+    def test_pythons_own_names_are_called_where_they_stand(self):
+        for at, node, outer in walked_within():
+            if isinstance(node, ast.Name) and hasattr(builtins, node.id):
+                called = isinstance(outer, ast.Call) and outer.func is node
+                asked = is_call_of(outer, ["isinstance"]) or isinstance(outer, (ast.ExceptHandler, ast.Tuple))
+                self.assertTrue(called or asked or isinstance(outer, (ast.ClassDef, ast.keyword)), at)
 
     def test_no_two_files_draw_from_one_another(self):
         drawn = {}
