@@ -119,3 +119,11 @@ class Board:
 
     def rooted(self, p):
         self.root = p
+
+
+# The numbers of the uses at each point that has some, in the board's order.
+def uses_by_point(board):
+    found = {}
+    for number, one in enumerate(board.uses):
+        found.setdefault(one.at, []).append(number)
+    return found

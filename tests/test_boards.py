@@ -4,7 +4,7 @@ import inspect
 import unittest
 
 from flowkinds import boards
-from flowkinds.boards import Board, CallUse, CaseUse, Make, NumUse, RowUse, TakeUse, Use
+from flowkinds.boards import Board, CallUse, CaseUse, Make, NumUse, RowUse, TakeUse, Use, uses_by_point
 
 # One making of each shape; all of them at point 3 with place 4.
 PARTS = {
@@ -278,6 +278,15 @@ class BoardTest(unittest.TestCase):
         one, other = Board(), Board()
         lists = [getattr(board, name) for board in (one, other) for name in ("points", "makes", "uses", "flows")]
         self.assertEqual(len({id(each) for each in lists}), 8)
+
+    def test_the_uses_of_each_point(self):
+        board = Board()
+        self.assertEqual(uses_by_point(board), {})
+        for place in range(4):
+            board.point(place)
+        for at in (3, 1, 3, 0, 1, 3):
+            board.use(NumUse(at, 9, 0))
+        self.assertEqual(uses_by_point(board), {3: [0, 2, 5], 1: [1, 4], 0: [3]})
 
     def test_a_board_somewhat_beyond_the_bounds(self):
         board = Board()

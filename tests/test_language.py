@@ -33,6 +33,13 @@ NOT_NAMES = """register mro elements open input version_info with_traceback add_
 compile copyright credits delattr dir eval exec exit gc getattr globals hasattr help id importlib license locals
 methodcaller os quit setattr super type vars sys""".split()
 
+# What is walked where it stands, and what may walk it.
+WALKED = "zip enumerate reversed range".split()
+WALKED_METHODS = "items keys values".split()
+WALKERS = "list tuple dict sorted sum any all enumerate zip min max".split()
+
+CHANGES = "append clear extend insert pop remove reverse setdefault update".split()
+
 TWO_UNDERSCORES = ["__init__", "__eq__", "__repr__", "__str__", "__len__"]
 
 
@@ -55,6 +62,10 @@ def walked_within():
 
 def is_call_of(node, names):
     return isinstance(node, ast.Call) and isinstance(node.func, ast.Name) and node.func.id in names
+
+
+def is_method_call_of(node, names):
+    return isinstance(node, ast.Call) and isinstance(node.func, ast.Attribute) and node.func.attr in names
 
 
 def bound_names(node):
@@ -224,6 +235,31 @@ class LanguageTest(unittest.TestCase):
                 called = isinstance(outer, ast.Call) and outer.func is node
                 asked = is_call_of(outer, ["isinstance"]) or isinstance(outer, (ast.ExceptHandler, ast.Tuple))
                 self.assertTrue(called or asked or isinstance(outer, (ast.ClassDef, ast.keyword)), at)
+
+    def test_what_is_walked_at_once(self):
+        for at, node, outer in walked_within():
+            if is_call_of(node, WALKED) or is_method_call_of(node, WALKED_METHODS):
+                in_loop = isinstance(outer, (ast.For, ast.comprehension)) and outer.iter is node
+                in_call = is_call_of(outer, WALKERS) and outer.args[0] is node
+                self.assertTrue(in_loop or in_call or is_method_call_of(outer, ["join"]), at)
+
+    def test_what_a_loop_walks_is_not_changed_in_it(self):
+        for at, node in walked():
+            if isinstance(node, ast.For):
+                ones = [node.iter] + [one for one in ast.walk(node.iter) if isinstance(one, (ast.Name, ast.Attribute))]
+                around = [ast.unparse(one) for one in ones]
+                for inner in [one for part in node.body for one in ast.walk(part)]:
+                    if isinstance(inner, ast.Attribute) and inner.attr in CHANGES:
+                        self.assertNotIn(ast.unparse(inner.value), around, at)
+                    if isinstance(inner, ast.Subscript) and isinstance(inner.ctx, ast.Store):
+                        self.assertNotIn(ast.unparse(inner.value), around, at)
+
+    def test_where_sets_stand(self):
+        for at, node, outer in walked_within():
+            if isinstance(node, ast.Set) or is_call_of(node, ["set", "frozenset"]):
+                compared = isinstance(outer, ast.Compare)
+                counted = is_call_of(outer, ["sorted", "len"]) and not outer.keywords
+                self.assertTrue(compared or counted or isinstance(outer, ast.BinOp), at)
 
     def test_no_two_files_draw_from_one_another(self):
         drawn = {}
